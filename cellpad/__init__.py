@@ -1,0 +1,1 @@
+"""A notebook's document under edits."""
