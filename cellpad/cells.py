@@ -6,6 +6,11 @@ None of them can be changed, so a document that is kept stays what it was.
 
 MOST_CELLS = 12
 LONGEST_TEXT = 200
+GREATEST_BYTE = 255
+
+
+def are_bytes(numbers):
+    return all([0 <= number <= GREATEST_BYTE for number in numbers])
 
 
 def number_of(cell):
@@ -48,11 +53,15 @@ def put_behind(document, after, cell):
 def places_found(text, wanted):
     """The places where the wanted text, which is not empty, is found."""
     places = []
+    first = wanted[0]
+    length = len(wanted)
+    last_place = len(text) - length
     place = 0
-    while place + len(wanted) <= len(text):
-        if text[place:place + len(wanted)] == wanted:
+    while place <= last_place:
+        # Most places are told by their first byte, without a slice of the text.
+        if text[place] == first and text[place:place + length] == wanted:
             places.append(place)
-            place += len(wanted)
+            place += length
         else:
             place += 1
     return places
@@ -62,15 +71,15 @@ def count_found(document, wanted):
     return sum([len(places_found(text_of(cell), wanted)) for cell in document])
 
 
-def length_replaced(text, wanted, other):
-    """How long the text would be; told without making it, for it may be far longer than a cell's."""
-    return len(text) + len(places_found(text, wanted)) * (len(other) - len(wanted))
-
-
 def text_replaced(text, wanted, other):
+    """The text with the other one wherever the wanted one is found, None if it would be too long."""
+    places = places_found(text, wanted)
+    # Told before it is made, for it may be far longer than a cell's.
+    if len(text) + len(places) * (len(other) - len(wanted)) > LONGEST_TEXT:
+        return None
     made = []
     behind = 0
-    for place in places_found(text, wanted):
+    for place in places:
         made.extend(text[behind:place])
         made.extend(other)
         behind = place + len(wanted)

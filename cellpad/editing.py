@@ -1,17 +1,12 @@
 """The nine calls that do an edit."""
 
-from cellpad.cells import LONGEST_TEXT, MOST_CELLS, count_found, has_cell, index_of, length_replaced, number_of
-from cellpad.cells import text_of
+from cellpad.cells import LONGEST_TEXT, MOST_CELLS, are_bytes, count_found, has_cell, index_of, number_of
+from cellpad.cells import text_of, text_replaced
 from cellpad.edits import JOIN, MAKE, REPLACE, SPLIT, do_edit
 from cellpad.refusals import BAD_AFTER, BAD_MARK, BAD_PLACE, EMPTY_TEXT, GROUP_FULL, NONE_BEHIND, NOT_REFUSED
 from cellpad.refusals import NO_BYTE, NO_CELL, NO_CHANGE, NUMBERS_USED_UP, TOO_LONG, TOO_MANY_CELLS
 
-GREATEST_BYTE = 255
 GREATEST_NUMBER = 99
-
-
-def are_bytes(numbers):
-    return all([0 <= number <= GREATEST_BYTE for number in numbers])
 
 
 def refuse_text(text):
@@ -114,7 +109,7 @@ def refuse_replace(pad, arguments):
         return TOO_LONG
     if len(wanted) == 0:
         return EMPTY_TEXT
-    if any([length_replaced(text_of(cell), wanted, other) > LONGEST_TEXT for cell in pad.document]):
+    if any([text_replaced(text_of(cell), wanted, other) is None for cell in pad.document]):
         return TOO_LONG
     return NOT_REFUSED
 

@@ -4,8 +4,8 @@ An edit is a tuple: its kind, then its arguments in the document's order, a text
 Doing an edit gives the document that it makes, or None if it can't be done.
 """
 
-from cellpad.cells import LONGEST_TEXT, MOST_CELLS, has_cell, index_of, length_replaced, mark_of, number_of
-from cellpad.cells import put_behind, text_of, text_replaced, with_cells
+from cellpad.cells import LONGEST_TEXT, MOST_CELLS, has_cell, index_of, mark_of, number_of, put_behind
+from cellpad.cells import text_of, text_replaced, with_cells
 
 # The kinds that are asked for by name.
 MAKE = 0
@@ -97,14 +97,12 @@ def do_swap(document, edit):
 
 
 def do_replace(document, edit):
-    wanted = edit[1]
-    other = edit[2]
     made = []
     for cell in document:
-        text = text_of(cell)
-        if length_replaced(text, wanted, other) > LONGEST_TEXT:
+        text = text_replaced(text_of(cell), edit[1], edit[2])
+        if text is None:
             return None
-        made.append((number_of(cell), mark_of(cell), text_replaced(text, wanted, other)))
+        made.append((number_of(cell), mark_of(cell), text))
     return tuple(made)
 
 

@@ -20,3 +20,11 @@ def answer_cancel(pad):
     if not pad.has_group():
         return NO_GROUP
     return pad.cancel_group()
+
+
+# In the order of their calls' numbers.
+GROUPINGS = (answer_begin, answer_end, answer_cancel)
+
+
+def answer_grouping(pad, which):
+    return GROUPINGS[which](pad)

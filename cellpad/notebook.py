@@ -1,24 +1,27 @@
 """The program's interface."""
 
 from cellpad.editing import answer_edit
-from cellpad.edits import REPLACE
-from cellpad.grouping import answer_begin, answer_cancel, answer_end
+from cellpad.grouping import answer_grouping
 from cellpad.pad import Pad
 from cellpad.reader import Reader
+from cellpad.telling import answer_telling
+from cellpad.travel import answer_travel
 
-BEGIN = 9
-END = 10
+# The number of the first call of each sort; the calls that do an edit begin at 0.
+FIRST_GROUPING = 9
+FIRST_TRAVEL = 12
+FIRST_TELLING = 16
 
 
 def answer_call(pad, call, arguments):
     """The numbers that are answered to the call of that number."""
-    if call <= REPLACE:
+    if call < FIRST_GROUPING:
         return [answer_edit(pad, call, arguments)]
-    if call == BEGIN:
-        return [answer_begin(pad)]
-    if call == END:
-        return [answer_end(pad)]
-    return [answer_cancel(pad)]
+    if call < FIRST_TRAVEL:
+        return [answer_grouping(pad, call - FIRST_GROUPING)]
+    if call < FIRST_TELLING:
+        return [answer_travel(pad, call - FIRST_TRAVEL, arguments)]
+    return answer_telling(pad, call - FIRST_TELLING, arguments)
 
 
 def answers(calls):

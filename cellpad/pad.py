@@ -43,6 +43,17 @@ class Pad:
             self.history.add_step(edits, self.document)
         return len(edits)
 
+    def go_to(self, position):
+        """Have as many steps done as the position says; no group is open."""
+        self.history.go_to(position)
+        self.document = self.history.present()
+
+    def strike_step(self, index):
+        """Strike this done step; gives False if that can't be done. No group is open."""
+        struck = self.history.strike_step(index)
+        self.document = self.history.present()
+        return struck
+
     def cancel_group(self):
         """Close the group, which is open, without its edits; tells how many it had."""
         edits = self.group

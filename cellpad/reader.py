@@ -1,8 +1,8 @@
 """Reading calls out of a list of whole numbers."""
 
 # How many whole numbers, and how many rows behind them, the call of each number has.
-WHOLES = (1, 1, 2, 1, 2, 2, 1, 2, 0, 0, 0, 0)
-ROWS = (1, 1, 0, 0, 0, 0, 0, 0, 2, 0, 0, 0)
+WHOLES = (1, 1, 2, 1, 2, 2, 1, 2, 0, 0, 0, 0, 0, 0, 1, 1, 0, 1, 1, 0, 1, 2, 1, 0)
+ROWS = (1, 1, 0, 0, 0, 0, 0, 0, 2, 0, 0, 0, 0, 0, 0, 0, 0, 0, 0, 0, 0, 0, 0, 1)
 
 
 class Reader:

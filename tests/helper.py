@@ -1,5 +1,7 @@
 """Calls written as the interface asks for them, and two ways to make them."""
 
+import unittest
+
 from cellpad.notebook import answer_call, answers
 from cellpad.pad import Pad
 from cellpad.reader import Reader
@@ -9,6 +11,10 @@ HUGE = 10 ** 18
 BEGIN = [9]
 END = [10]
 CANCEL = [11]
+UNDO = [12]
+REDO = [13]
+WHOLE = [16]
+STATE = [19]
 
 
 def row(numbers):
@@ -51,12 +57,73 @@ def replace(x, y):
     return [8] + row(x) + row(y)
 
 
+def to(position):
+    return [14, position]
+
+
+def strike(index):
+    return [15, index]
+
+
+def text(number):
+    return [17, number]
+
+
+def at(position):
+    return [18, position]
+
+
+def step(index):
+    return [20, index]
+
+
+def changed(p, q):
+    return [21, p, q]
+
+
+def blame(number):
+    return [22, number]
+
+
+def find(x):
+    return [23] + row(x)
+
+
+def flat(calls):
+    return [number for call in calls for number in call]
+
+
+def parted(given):
+    """The numbers that were given back, as one list for each answer."""
+    parts = []
+    place = 0
+    while place < len(given):
+        count = given[place]
+        parts.append(given[place + 1:place + 1 + count])
+        if len(parts[-1]) != count or count < 1:
+            raise AssertionError(f"an answer of {count} numbers at {place}: {given}")
+        place += 1 + count
+    return parts
+
+
+def told(*calls):
+    """The answers to these calls, each a list."""
+    parts = parted(answers(flat(calls)))
+    if len(parts) != len(calls):
+        raise AssertionError(f"{len(parts)} answers to {len(calls)} calls")
+    return parts
+
+
+def last_told(*calls):
+    return told(*calls)[-1]
+
+
 def ask(*calls):
     """The answers to these calls, of which each is one number."""
-    given = answers([number for call in calls for number in call])
-    if given[0::2] != [1] * len(calls):
+    given = told(*calls)
+    if any(len(answer) != 1 for answer in given):
         raise AssertionError(f"not one number a call: {given}")
-    return given[1::2]
+    return flat(given)
 
 
 def last(*calls):
@@ -109,3 +176,26 @@ def numbers_used(count):
         calls += [BEGIN] + [new(0, [])] * some + [CANCEL]
         count -= some
     return calls
+
+
+def row_told(*cells):
+    """A document of these (number, mark, text) as it is told."""
+    return [len(cells)] + [number for cell in cells for number in [cell[0], cell[1]] + row(cell[2])]
+
+
+# Calls that tell all that the interface can tell, but for single cells.
+PROBES = [WHOLE, STATE] + [at(position) for position in range(21)] + [step(index) for index in range(20)]
+
+
+class Refusing(unittest.TestCase):
+    def refused(self, calls, *refusals):
+        """Behind these calls each (call, refusal) is answered so, and everything stays as it was."""
+        pad = pad_after(*calls)
+        before = held(pad)
+        for call, refusal in refusals:
+            self.assertEqual(say(pad, call), [refusal], call)
+            self.assertEqual(held(pad), before, call)
+        all_refused = [call for call, refusal in refusals]
+        given = told(*calls, *all_refused, *PROBES)[len(calls):]
+        self.assertEqual(given[:len(refusals)], [[refusal] for call, refusal in refusals])
+        self.assertEqual(given[len(refusals):], told(*calls, *PROBES)[len(calls):])

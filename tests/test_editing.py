@@ -2,26 +2,14 @@
 
 import unittest
 
-from helper import BEGIN, CANCEL, END, HUGE, ask, drop, held, hide, join, last, move, new, numbers_in, numbers_used
-from helper import pad_after, replace, row_of_cells, say, split, swap, write
+from helper import BEGIN, CANCEL, END, HUGE, Refusing, ask, drop, hide, join, last, move, new, numbers_in, numbers_used
+from helper import pad_after, replace, row_of_cells, split, swap, write
 
 NO_BYTES = ([256], [-1], [HUGE], [-HUGE], [5, 5, 256], [-1] * 400, [0] * 200 + [256])
 NO_NUMBERS = (0, -1, 4, 99, 100, HUGE, -HUGE)
 
 # Twelve cells of three bytes, 88 to 99, and no number left.
 ALL_FULL = numbers_used(87) + [new(0, [1, 2, 3])] + [new(after, [1, 2, 3]) for after in range(88, 99)]
-
-
-class Refusing(unittest.TestCase):
-    def refused(self, calls, *refusals):
-        """Behind these calls each (call, refusal) is answered so, and everything stays as it was."""
-        pad = pad_after(*calls)
-        before = held(pad)
-        for call, refusal in refusals:
-            self.assertEqual(say(pad, call), [refusal], call)
-            self.assertEqual(held(pad), before, call)
-        self.assertEqual(ask(*calls, *[call for call, refusal in refusals])[len(calls):],
-                         [refusal for call, refusal in refusals])
 
 
 class Point1(Refusing):

@@ -5,15 +5,9 @@ import unittest
 from cellpad.history import History
 
 from helper import BEGIN, CANCEL, END, ask, drop, held, hide, last, move, new, pad_after, row_of_cells, say, split
-from helper import write
+from helper import to, write
 
 TEN = [write(1, [k]) for k in range(10)]
-
-
-def go_to(pad, position):
-    """As many steps done as the position says, the others undone."""
-    pad.history.position = position
-    pad.document = pad.history.present()
 
 
 class Point11Begin(unittest.TestCase):
@@ -60,15 +54,13 @@ class Point12End(unittest.TestCase):
         self.assertEqual(pad.history.steps, [((0, 1, 0, ()),), ((1, 1, (5,)),)])
 
     def test_an_empty_group_adds_nothing_and_the_undone_steps_stay(self):
-        pad = pad_after(*row_of_cells(3))
-        go_to(pad, 1)
+        pad = pad_after(*row_of_cells(3), to(1))
         before = held(pad)
         self.assertEqual(say(pad, BEGIN, END), [0, 0])
         self.assertEqual(held(pad), before)
 
     def test_a_group_with_edits_ends_the_undone_steps_when_it_ends(self):
-        pad = pad_after(*row_of_cells(3))
-        go_to(pad, 1)
+        pad = pad_after(*row_of_cells(3), to(1))
         say(pad, BEGIN, write(1, [5]))
         self.assertEqual(len(pad.history.steps), 3)
         self.assertEqual(say(pad, END), [1])
@@ -99,8 +91,7 @@ class Point13Cancel(unittest.TestCase):
         self.assertEqual(ask(BEGIN, new(0, [1]), split(1, 0), CANCEL, new(0, []), drop(1)), [0, 1, 2, 2, 3, -1])
 
     def test_the_undone_steps_stay(self):
-        pad = pad_after(*row_of_cells(3))
-        go_to(pad, 1)
+        pad = pad_after(*row_of_cells(3), to(1))
         before = held(pad)
         self.assertEqual(say(pad, BEGIN, write(1, [5]), CANCEL), [0, 0, 1])
         self.assertEqual(held(pad), before)
@@ -116,8 +107,7 @@ class Adding(unittest.TestCase):
         self.assertEqual(held(pad_after()), ([], [()], 0, 0, (), None, 1))
 
     def test_there_are_no_undone_steps_any_more(self):
-        pad = pad_after(*row_of_cells(4))
-        go_to(pad, 2)
+        pad = pad_after(*row_of_cells(4), to(2))
         say(pad, write(1, [5]))
         self.assertEqual(len(pad.history.steps), 3)
         self.assertEqual(pad.history.position, 3)

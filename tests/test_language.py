@@ -35,6 +35,19 @@ WORDS_OUT = re.compile(
 OWN_VALUES = {name for kind in (str, int, list, dict, set, bytes) for name in dir(kind)}
 
 
+WALKED_AT_ONCE = "zip enumerate reversed range items keys values".split()
+TAKES_A_WALK = "list tuple dict sorted sum any all enumerate zip min max join".split()
+KEYWORDS = [
+    ("sorted", "key"), ("sorted", "reverse"), ("min", "key"), ("min", "default"), ("max", "key"), ("max", "default"),
+    ("sum", "start"), ("enumerate", "start"), ("zip", "strict"),
+]
+
+
+def called(call):
+    """The name of the function or method that is called."""
+    return getattr(call.func, "id", getattr(call.func, "attr", None))
+
+
 def files():
     return sorted(PACKAGE.glob("**/*.py"))
 
@@ -95,6 +108,36 @@ class Statements(unittest.TestCase):
             for sign, right in zip(node.ops, node.comparators):
                 if isinstance(sign, (ast.Is, ast.IsNot)):
                     self.assertIn(repr(getattr(right, "value", 0)), ("None", "True", "False"), (name, node.lineno))
+
+    def test_what_is_walked_at_once_is_not_kept(self):
+        for name, tree in trees():
+            fit = [node.iter for node in ast.walk(tree) if isinstance(node, (ast.For, ast.comprehension))]
+            for node in ast.walk(tree):
+                if isinstance(node, ast.Call) and called(node) in TAKES_A_WALK:
+                    fit += node.args[:1]
+            for node in ast.walk(tree):
+                if isinstance(node, ast.Call) and called(node) in WALKED_AT_ONCE:
+                    self.assertIn(node, fit, (name, node.lineno))
+
+    def test_keywords(self):
+        for name, node in walked(ast.Call):
+            for keyword in node.keywords:
+                self.assertIn((called(node), keyword.arg), KEYWORDS, (name, node.lineno))
+
+    def test_no_percent_sign_in_a_text(self):
+        for name, node in walked(ast.Constant):
+            self.assertFalse(isinstance(node.value, str) and "%" in node.value, (name, node.lineno))
+
+    def test_a_table_at_a_files_top_holds_functions_of_that_file(self):
+        for name, tree in trees():
+            above = []
+            for node in tree.body:
+                if isinstance(node, ast.FunctionDef):
+                    above.append(node.name)
+                if isinstance(node, ast.Assign):
+                    for part in ast.walk(node.value):
+                        if isinstance(part, ast.Name):
+                            self.assertIn(part.id, above, (name, node.lineno))
 
     def test_the_top_of_a_file(self):
         for name, tree in trees():
@@ -164,6 +207,24 @@ class Names(unittest.TestCase):
         self.assertFalse(values & OWN_VALUES)
         for name, node in walked(ast.Attribute):
             self.assertIn(node.attr, METHODS + sorted(methods) + sorted(values), (name, node.lineno))
+
+    def test_no_parameter_or_local_is_called_like_a_class_or_an_import(self):
+        for name, tree in trees():
+            taken = [part.name for node in tree.body if isinstance(node, ast.ImportFrom) for part in node.names]
+            taken += [node.name for node in tree.body if isinstance(node, ast.ClassDef)]
+            for node in ast.walk(tree):
+                if isinstance(node, ast.arg):
+                    self.assertNotIn(node.arg, taken, (name, node.lineno))
+                if isinstance(node, ast.Name) and isinstance(node.ctx, ast.Store):
+                    self.assertNotIn(node.id, taken, (name, node.lineno))
+
+    def test_what_is_imported_is_used(self):
+        for name, tree in trees():
+            used = [node.id for node in ast.walk(tree) if isinstance(node, ast.Name)]
+            for node in tree.body:
+                if isinstance(node, ast.ImportFrom):
+                    for part in node.names:
+                        self.assertIn(part.name, used, name)
 
     def test_what_stands_at_a_files_top_holds_no_list(self):
         for name, tree in trees():
